@@ -1,0 +1,1 @@
+"""Turncouple: turns coupled exactly, with signs and roots kept whole."""
