@@ -101,7 +101,7 @@ class Words(unittest.TestCase):
             self.assertEqual(len(outer), len(set(outer)), path)
             for node in ast.walk(tree):
                 if isinstance(node, ast.FunctionDef):
-                    for name in bound_names(ast.Module(node.body, [])) + [arg.arg for arg in node.args.args]:
+                    for name in bound_names(ast.Module(node.body, [])) + bound_names(node.args):
                         self.assertNotIn(name, outer, (path, node.name))
 
     def test_builtins(self):
@@ -170,6 +170,32 @@ class Statements(unittest.TestCase):
             for node in ast.walk(tree):
                 if isinstance(node, ast.Call) and isinstance(node.func, ast.Attribute):
                     self.assertIn(node.func.attr, ALLOWED_METHODS | own | {"__init__"}, (path, node.lineno))
+
+    def test_what_is_gone_through_at_once_is_not_kept(self):
+        takers = ("list", "tuple", "dict", "sorted", "sum", "any", "all", "enumerate", "zip", "bytes", "min", "max")
+        for path, tree in trees():
+            allowed = []
+            for node in ast.walk(tree):
+                if isinstance(node, (ast.For, ast.comprehension)):
+                    allowed.append(node.iter)
+                if isinstance(node, ast.Call) and isinstance(node.func, ast.Name) and node.args:
+                    if node.func.id in takers:
+                        allowed.append(node.args[0])
+                    if node.func.id == "reversed" and ast.unparse(node.args[0]).startswith("range("):
+                        allowed.append(node.args[0])
+            for node in ast.walk(tree):
+                if isinstance(node, ast.Call):
+                    name = getattr(node.func, "id", getattr(node.func, "attr", None))
+                    if name in ("zip", "enumerate", "reversed", "range", "items", "keys", "values"):
+                        self.assertIn(node, allowed, (path, node.lineno))
+
+    def test_stars_in_calls(self):
+        for path, tree in trees():
+            for node in ast.walk(tree):
+                if isinstance(node, ast.Call):
+                    for arg in node.args:
+                        if isinstance(arg, ast.Starred):
+                            self.assertIsInstance(arg.value, ast.Name, (path, node.lineno))
 
     def test_each_raise_makes_its_refusal_on_the_spot(self):
         for path, tree in trees():

@@ -1,10 +1,12 @@
 """Promise 6: root_of."""
 
+import random
 import unittest
+from math import factorial, prod
 
 from tests.plain import NOT_EXACT, made, number_of, primes_to
 from turncouple.errors import NoNumber
-from turncouple.numbers import Exact, exact, root_of, sign, times
+from turncouple.numbers import Exact, exact, root_of, root_of_factorials, sign, times
 
 
 class Roots(unittest.TestCase):
@@ -72,6 +74,20 @@ class Roots(unittest.TestCase):
     def test_a_root_that_is_squared_away(self):
         self.assertEqual(root_of(exact(1, root=4)).parts, ((2, 1, 1),))
         self.assertEqual(root_of(exact(1, root=0)).parts, ())
+
+    def test_roots_of_factorials(self):
+        self.assertEqual(root_of_factorials([0], [1]).parts, ((1, 1, 1),))
+        self.assertEqual(root_of_factorials([3], [4]).parts, ((1, 1, 2),))
+        self.assertEqual(root_of_factorials([2, 3], [5]).parts, ((10, 1, 10),))
+        luck = random.Random(1)
+        for at in range(100):
+            above, below = [[luck.randint(0, 81) for k in range(9)] for side in range(2)]
+            root = root_of_factorials(above, below)
+            top, bottom = prod(factorial(number) for number in above), prod(factorial(number) for number in below)
+            self.assertEqual(times(root, root), exact(top, bottom=bottom))
+            self.assertEqual(sign(root), 1)
+            # Its parts are just as those of any other number.
+            self.assertEqual(times(root, exact(1)).parts, root.parts)
 
     def test_what_is_no_exact_number(self):
         for thing in NOT_EXACT:

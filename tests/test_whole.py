@@ -59,6 +59,27 @@ class Helpers(unittest.TestCase):
                     self.assertEqual(number // 10 ** (count - 20), int(text[:20]))
         self.assertEqual(whole.figures(0), "0")
 
+    def test_factorials_and_binomials(self):
+        for high in (0, 1, 2, 5, 81):
+            self.assertEqual(whole.factorials(high), [math.factorial(k) for k in range(high + 1)])
+            self.assertEqual(whole.binomials(high), [math.comb(high, k) for k in range(high + 1)])
+        for number in range(-5, 6):
+            self.assertIs(whole.is_odd(number), abs(number) % 2 == 1)
+
+    def test_primes_of_factorials(self):
+        luck = random.Random(3)
+        for at in range(200):
+            above = [luck.randint(0, 81) for k in range(luck.randint(1, 12))]
+            below = [luck.randint(0, 81) for k in range(luck.randint(1, 12))]
+            top = math.prod(math.factorial(number) for number in above)
+            bottom = math.prod(math.factorial(number) for number in below)
+            for prime, power in whole.primes_of_factorials(above, below):
+                top *= prime ** max(0, -power)
+                bottom *= prime ** max(0, power)
+            self.assertEqual(top, bottom)
+        self.assertEqual(whole.primes_of_factorials([0], [1]), [])
+        self.assertEqual(whole.primes_of_factorials([4], [2, 0]), [(2, 2), (3, 1)])
+
     def test_what_are_no_figures(self):
         for text in ("", " ", "-1", "+1", "1_0", " 1", "1 ", "1\n", "a", "1.0", "1/2", "\u0661", "\u00b2"):
             self.assertIsNone(whole.read_figures(text))

@@ -1,7 +1,7 @@
 """Exact numbers: sums of fractions times roots of unlike whole numbers without a square in them."""
 
 from turncouple.errors import ByNought, NoNumber, NoText, TooWide
-from turncouple.whole import figures, floor_root, in_lowest, is_whole, primes_in
+from turncouple.whole import figures, floor_root, in_lowest, is_odd, is_whole, primes_in, primes_of_factorials
 from turncouple.whole import read_figures, shared, squares_out, sum_in_lowest
 
 HIGHEST_ROOT = 1000000
@@ -125,6 +125,21 @@ def read_exact(text):
     if parts is None or not are_parts(parts) or text_of(parts) != text:
         raise NoText(0)
     return Exact(tuple(parts))
+
+
+def root_of_factorials(above, below):
+    """The root of the product of n! of all n above over that of all n below, none above 1000."""
+    root, top, bottom = 1, 1, 1
+    for prime, power in primes_of_factorials(above, below):
+        # Rounded down, so that of a power below 0, too, at most one prime stays in the root, and above.
+        half = power // 2
+        for turn in range(half):
+            top *= prime
+        for turn in range(-half):
+            bottom *= prime
+        if is_odd(power):
+            root *= prime
+    return Exact(((root, top, bottom),))
 
 
 def need_exact(thing):

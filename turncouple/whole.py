@@ -108,3 +108,47 @@ def read_figures(text):
     for at in range(first, len(text), BLOCK_FIGURES):
         number = number * BLOCK + int(text[at:at + BLOCK_FIGURES])
     return number
+
+
+def is_odd(number):
+    """Whether a power of -1 with this number is -1."""
+    return number % 2 == 1
+
+
+def factorials(high):
+    """The list of n! for each n from 0 to high."""
+    found = [1]
+    for number in range(1, high + 1):
+        found.append(found[-1] * number)
+    return found
+
+
+def binomials(high):
+    """The list of how many choices of n out of high there are, for each n from 0 to high."""
+    found = [1]
+    for number in range(high):
+        found.append(found[-1] * (high - number) // (number + 1))
+    return found
+
+
+def primes_of_factorials(above, below):
+    """The list of (prime, power) of the product of n! of all n above over that of all n below, none above 1000."""
+    high = max([*above, *below])
+    # How often each factor stands above, less how often below: n! brings each factor up to n once.
+    counts = [0] * (high + 1)
+    for number in above:
+        counts[number] += 1
+    for number in below:
+        counts[number] -= 1
+    for number in reversed(range(high)):
+        counts[number] += counts[number + 1]
+    found = []
+    for prime in PRIMES:
+        if prime > high:
+            break
+        power, step = 0, prime
+        while step <= high:
+            power += sum(counts[step::step])
+            step *= prime
+        found.append((prime, power))
+    return found
