@@ -205,5 +205,151 @@ class Statements(unittest.TestCase):
                     self.assertIsInstance(node.exc.func, ast.Name, (path, node.lineno))
 
 
+def attribute_targets(tree):
+    """The names of all attributes that a file assigns."""
+    return {node.attr for node in ast.walk(tree) if isinstance(node, ast.Attribute) and isinstance(node.ctx, ast.Store)}
+
+
+def fields_of(tree):
+    """The names of all attributes that a file reads, but those of methods that it calls."""
+    called = [node.func for node in ast.walk(tree) if isinstance(node, ast.Call)]
+    every = [node for node in ast.walk(tree) if isinstance(node, ast.Attribute) and isinstance(node.ctx, ast.Load)]
+    return {node.attr for node in every if node not in called}
+
+
+class Classes(unittest.TestCase):
+    def test_no_name_is_a_method_here_and_an_attribute_there(self):
+        methods, fields, read = set(), set(), set()
+        for path, tree in trees():
+            for node in tree.body:
+                if isinstance(node, ast.ClassDef):
+                    methods |= {part.name for part in node.body if isinstance(part, ast.FunctionDef)}
+            fields |= attribute_targets(tree)
+            read |= fields_of(tree)
+        self.assertEqual(methods & fields, set())
+        self.assertEqual(read - fields, {"__init__"} & read)
+        barred = "items keys values pop update append clear extend insert remove reverse setdefault sort args encode decode"
+        self.assertEqual(fields & set(barred.split()), set())
+
+    def test_double_underscore_methods(self):
+        for path, tree in trees():
+            for node in ast.walk(tree):
+                if isinstance(node, ast.FunctionDef) and node.name in ("__eq__", "__str__", "__repr__"):
+                    self.assertEqual([type(part) for part in node.body], [ast.Return], path)
+                if isinstance(node, ast.FunctionDef) and node.name == "__init__":
+                    self.assertFalse([part for part in ast.walk(node) if isinstance(part, ast.Return)], path)
+                if isinstance(node, ast.FunctionDef) and node.name.startswith("__"):
+                    self.assertIn(node.name, ALLOWED_DUNDER)
+
+    def test_decorators_and_bases(self):
+        for path, tree in trees():
+            for node in ast.walk(tree):
+                if isinstance(node, (ast.FunctionDef, ast.ClassDef)):
+                    self.assertEqual(node.decorator_list, [], path)
+                if isinstance(node, ast.ClassDef):
+                    self.assertIn(node, tree.body)
+                    self.assertLessEqual(len(node.bases), 1)
+
+
+class Values(unittest.TestCase):
+    def test_module_level(self):
+        plain = (ast.Constant, ast.Tuple, ast.List, ast.Dict, ast.BinOp, ast.Pow, ast.Load, ast.UnaryOp, ast.USub)
+        for path, tree in trees():
+            names = []
+            for at, node in enumerate(tree.body):
+                if isinstance(node, ast.Assign):
+                    self.assertEqual(len(node.targets), 1)
+                    names.append(node.targets[0].id)
+                    for part in ast.walk(node.value):
+                        self.assertIsInstance(part, plain, (path, node.lineno))
+                elif isinstance(node, ast.Expr):
+                    self.assertEqual(at, 0, path)
+                    self.assertIsInstance(node.value.value, str, path)
+                else:
+                    self.assertIsInstance(node, (ast.ImportFrom, ast.FunctionDef, ast.ClassDef), path)
+            self.assertEqual(len(names), len(set(names)), path)
+
+    def test_lists_and_dicts_at_module_level_are_only_read(self):
+        for path, tree in trees():
+            for node in tree.body:
+                if isinstance(node, ast.Assign) and isinstance(node.value, (ast.List, ast.Dict)):
+                    name = node.targets[0].id
+                    inner = [part for part in ast.walk(node.value) if isinstance(part, (ast.List, ast.Dict))]
+                    self.assertEqual(inner, [node.value])
+                    allowed = []
+                    for part in ast.walk(tree):
+                        if isinstance(part, ast.Subscript) and isinstance(part.ctx, ast.Load):
+                            allowed.append(part.value)
+                        if isinstance(part, ast.Compare):
+                            allowed += part.comparators
+                    for part in ast.walk(tree):
+                        if isinstance(part, ast.Name) and part.id == name and isinstance(part.ctx, ast.Load):
+                            self.assertIn(part, allowed, (path, part.lineno))
+
+    def test_sets_stand_where_they_may(self):
+        for path, tree in trees():
+            allowed = []
+            for node in ast.walk(tree):
+                if isinstance(node, ast.Call) and isinstance(node.func, ast.Name) and node.func.id in ("len", "sorted"):
+                    allowed += node.args
+            for node in ast.walk(tree):
+                self.assertNotIsInstance(node, (ast.Set, ast.SetComp), path)
+                if isinstance(node, ast.Call) and isinstance(node.func, ast.Name) and node.func.id in ("set", "frozenset"):
+                    self.assertIn(node, allowed, (path, node.lineno))
+
+    def test_keywords_of_builtins(self):
+        allowed = {"sorted": {"key", "reverse"}, "min": {"key", "default"}, "max": {"key", "default"}, "sum": {"start"},
+                   "enumerate": {"start"}, "zip": {"strict"}}
+        for path, tree in trees():
+            for node in ast.walk(tree):
+                if isinstance(node, ast.Call):
+                    named = {word.arg for word in node.keywords}
+                    if isinstance(node.func, ast.Name) and hasattr(builtins, node.func.id):
+                        self.assertLessEqual(named, allowed.get(node.func.id, set()), (path, node.lineno))
+                    if isinstance(node.func, ast.Attribute):
+                        self.assertEqual(named, set(), (path, node.lineno))
+
+    def test_what_is_not_used_at_all(self):
+        barred = (ast.Yield, ast.YieldFrom, ast.GeneratorExp, ast.NamedExpr, ast.Nonlocal, ast.With, ast.Match, ast.AnnAssign,
+                  ast.Delete)
+        for path, tree in trees():
+            for node in ast.walk(tree):
+                self.assertNotIsInstance(node, barred, (path, getattr(node, "lineno", None)))
+                if isinstance(node, ast.arg):
+                    self.assertIsNone(node.annotation)
+                if isinstance(node, ast.FunctionDef):
+                    self.assertIsNone(node.returns)
+                    self.assertEqual(node.args.posonlyargs, [])
+
+    def test_handlers_name_own_refusals(self):
+        own = {node.name for node in ast.parse((PACKAGE / "errors.py").read_text()).body if isinstance(node, ast.ClassDef)}
+        for path, tree in trees():
+            for node in ast.walk(tree):
+                if isinstance(node, ast.ExceptHandler):
+                    self.assertIn(ast.unparse(node.type), own, path)
+                    self.assertIsNone(node.name)
+                if isinstance(node, ast.Try):
+                    self.assertEqual(node.finalbody, [])
+
+    def test_escapes(self):
+        for path in FILES:
+            self.assertEqual(re.findall(r"\\[^n]", path.read_text()), [], path)
+
+    def test_what_a_loop_goes_through_is_not_changed_in_it(self):
+        changing = {"append", "clear", "extend", "insert", "pop", "remove", "reverse", "setdefault", "update", "sort"}
+        for path, tree in trees():
+            for loop in ast.walk(tree):
+                if isinstance(loop, ast.For):
+                    over = {ast.unparse(part) for part in ast.walk(loop.iter) if isinstance(part, (ast.Name, ast.Attribute))}
+                    for node in [part for row in loop.body for part in ast.walk(row)]:
+                        if isinstance(node, ast.Call) and isinstance(node.func, ast.Attribute):
+                            if node.func.attr in changing:
+                                self.assertNotIn(ast.unparse(node.func.value), over, (path, node.lineno))
+                        if isinstance(node, ast.Subscript) and isinstance(node.ctx, ast.Store):
+                            self.assertNotIn(ast.unparse(node.value), over, (path, node.lineno))
+                        if isinstance(node, ast.Call) and ast.unparse(node.func) == "add_at":
+                            self.assertNotIn(ast.unparse(node.args[0]), over, (path, node.lineno))
+
+
 if __name__ == "__main__":
     unittest.main()

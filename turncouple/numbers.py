@@ -142,6 +142,41 @@ def root_of_factorials(above, below):
     return Exact(((root, top, bottom),))
 
 
+def add_at(table, key, number):
+    """Add an exact number to what a dict has at a key."""
+    table[key] = plus(table[key], number) if key in table else number
+
+
+def without_noughts(table):
+    """A new dict of all exact numbers of one that aren't 0."""
+    return {key: number for key, number in table.items() if number.parts != ()}
+
+
+def whole_times(table):
+    """(dict, bottom): the exact numbers of a dict taken bottom times, so that no fraction stays in them.
+
+    Sums of such numbers are found much faster where the bottoms are long.
+    """
+    common = 1
+    for number in table.values():
+        for root, top, bottom in number.parts:
+            common = common // shared(common, bottom) * bottom
+    return {key: times(number, exact(common)) for key, number in table.items()}, common
+
+
+def all_over(table, bottom):
+    """A dict of the exact numbers of one, each over the bottom."""
+    return {key: times(number, exact(1, bottom=bottom)) for key, number in table.items()}
+
+
+def sum_of_squares(numbers):
+    """The sum of the squares of a list of exact numbers."""
+    total = exact(0)
+    for number in numbers:
+        total = plus(total, times(number, number))
+    return total
+
+
 def need_exact(thing):
     """Refuse what is no exact number."""
     if not isinstance(thing, Exact):

@@ -1,4 +1,4 @@
-"""Whole numbers: what they share, their primes and squares, their roots rounded down, their figures."""
+"""What all modules share: names, and whole numbers, their primes and squares, their roots and figures."""
 
 # These are all the primes that a root may have in it.
 PRIMES = (
@@ -17,11 +17,24 @@ PRIMES = (
 # Python refuses to write or read more than some thousand figures at once, so long numbers go block by block.
 BLOCK_FIGURES = 64
 BLOCK = 10 ** 64
+LONGEST_NAME = 8
 
 
 def is_whole(thing):
     """Whether it is an int that is no truth."""
     return isinstance(thing, int) and not isinstance(thing, bool)
+
+
+def is_name(thing):
+    """Whether it is a text of one to eight small letters."""
+    if not isinstance(thing, str) or len(thing) > LONGEST_NAME:
+        return False
+    return thing.isascii() and thing.isalpha() and thing.islower()
+
+
+def are_unlike(things):
+    """Whether no two of a list of things, whatever they are, are the same."""
+    return all([thing not in things[:at] for at, thing in enumerate(things)])
 
 
 def shared(one, other):
@@ -113,6 +126,11 @@ def read_figures(text):
 def is_odd(number):
     """Whether a power of -1 with this number is -1."""
     return number % 2 == 1
+
+
+def sign_to(power):
+    """-1 to a power."""
+    return -1 if is_odd(power) else 1
 
 
 def factorials(high):
